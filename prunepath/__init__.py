@@ -1,0 +1,1 @@
+"""Prunepath: a tree of questions and the row of its best prunings."""
