@@ -36,6 +36,13 @@ NOT_WRITTEN = (
     ast.NamedExpr, ast.Starred, ast.Div, ast.MatMult, ast.AnnAssign, ast.TryStar,
 )
 
+WALKED_AT_ONCE = ("zip", "enumerate", "reversed", "range", "items", "keys", "values")
+WALKERS = ("list", "tuple", "dict", "sorted", "sum", "any", "all", "enumerate", "zip", "min", "max", "join")
+KEYWORDS = {
+    "sorted": ("key", "reverse"), "min": ("key", "default"), "max": ("key", "default"), "sum": ("start",),
+    "enumerate": ("start",), "zip": ("strict",),
+}
+
 
 def texts():
     return {path.name: path.read_text(encoding="utf-8") for path in sorted(PACKAGE.glob("*.py"))}
@@ -65,6 +72,20 @@ def bound_names(tree):
         elif isinstance(node, ast.ExceptHandler) and node.name:
             names.add(node.name)
     return names
+
+
+def walked_with_parent():
+    for name, tree in trees().items():
+        for parent in ast.walk(tree):
+            for node in ast.iter_child_nodes(parent):
+                yield f"{name}:{getattr(node, 'lineno', 0)}", node, parent
+
+
+def called(node):
+    # The name that a call calls, a method's too; None for anything else.
+    if not isinstance(node, ast.Call):
+        return None
+    return node.func.id if isinstance(node.func, ast.Name) else node.func.attr
 
 
 def is_docstring(node):
@@ -164,6 +185,54 @@ class Language(unittest.TestCase):
             if isinstance(node, ast.ExceptHandler):
                 self.assertIsNotNone(node.type, f"L6 {where}")
                 self.assertNotIn(ast.unparse(node.type), ("Exception", "TypeError"), f"L19 {where}")
+
+    def test_annotations(self):
+        for where, node in walked():
+            if isinstance(node, ast.FunctionDef):
+                self.assertIsNone(node.returns, f"L21 {where}")
+            if isinstance(node, ast.arg):
+                self.assertIsNone(node.annotation, f"L21 {where}")
+
+    def test_keywords(self):
+        for where, node in walked():
+            if called(node) in OWN_NAMES | METHODS:
+                for keyword in node.keywords:
+                    self.assertIn(keyword.arg, KEYWORDS.get(called(node), ()), f"L22 {where}")
+
+    def test_walked_at_once(self):
+        for where, node, parent in walked_with_parent():
+            if called(node) in WALKED_AT_ONCE:
+                walks = isinstance(parent, (ast.For, ast.comprehension)) or called(parent) in WALKERS
+                self.assertTrue(walks, f"L23 {where}")
+
+    def test_sets(self):
+        for where, node, parent in walked_with_parent():
+            self.assertNotIsInstance(node, ast.Set, f"L13, L24 {where}")
+            if called(node) in ("set", "frozenset"):
+                asked = isinstance(parent, (ast.Compare, ast.BinOp)) or called(parent) in ("sorted", "len")
+                self.assertTrue(asked, f"L24 {where}")
+
+    def test_powers(self):
+        for where, node in walked():
+            if isinstance(node, ast.BinOp) and isinstance(node.op, ast.Pow):
+                written = isinstance(node.right, ast.Constant) and 0 <= node.right.value <= 64
+                self.assertTrue(written, f"L27 {where}")
+
+    def test_methods_with_two_underscores(self):
+        for where, node in walked():
+            if isinstance(node, ast.FunctionDef) and node.name == "__init__":
+                self.assertFalse(any(isinstance(row, ast.Return) for row in ast.walk(node)), f"L28 {where}")
+
+    def test_locals_bear_no_name_of_an_import_or_a_class(self):
+        for name, tree in trees().items():
+            taken = {alias.name for row in tree.body if isinstance(row, ast.ImportFrom) for alias in row.names}
+            taken |= {row.name for row in tree.body if isinstance(row, ast.ClassDef)}
+            rows = [row for row in tree.body if isinstance(row, ast.FunctionDef)]
+            for owner in tree.body:
+                if isinstance(owner, ast.ClassDef):
+                    rows.extend(row for row in owner.body if isinstance(row, ast.FunctionDef))
+            for row in rows:
+                self.assertEqual((bound_names(row) - {row.name}) & taken, set(), f"L15 {name}:{row.lineno}")
 
     def test_names(self):
         for name, tree in trees().items():
