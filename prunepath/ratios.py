@@ -27,11 +27,17 @@ def ratio(top, bottom):
 
 
 def plus(one, other):
-    return ratio(one[0] * other[1] + other[0] * one[1], one[1] * other[1])
+    # Both are in lowest terms, so their sum can be divided by nothing but what the bottoms share;
+    # to look for it in the whole sum takes far too long where many large ratios are added up.
+    shared = greatest_divisor(one[1], other[1])
+    lift = other[1] // shared
+    top = one[0] * lift + other[0] * (one[1] // shared)
+    divisor = greatest_divisor(top, shared)
+    return (top // divisor, one[1] // divisor * lift)
 
 
 def minus(one, other):
-    return ratio(one[0] * other[1] - other[0] * one[1], one[1] * other[1])
+    return plus(one, (-other[0], other[1]))
 
 
 def times(one, other):

@@ -6,14 +6,9 @@ from fractions import Fraction
 
 from prunepath.errors import NoRatio
 from prunepath.ratios import amid, minus, over, plus, ratio, times, under
+from samples import as_ratio, figures, fraction
 
 SMALL = [(top, bottom) for bottom in range(1, 9) for top in range(-9, 10) if math.gcd(top, bottom) == 1]
-
-
-def figures(many, seed):
-    # A number of just so many figures, the same at every run.
-    low = 10 ** (many - 1)
-    return low + pow(seed, 3 * many) % (9 * low)
 
 
 def large_ratios(many):
@@ -26,10 +21,6 @@ def large_ratios(many):
     told.append((1, figures(many, 19)))
     told.append((-1, figures(many, 19)))
     return told
-
-
-def fraction(one):
-    return Fraction(one[0], one[1])
 
 
 class Ratios(unittest.TestCase):
@@ -168,6 +159,26 @@ class Reckoned(Ratios):
         self.assertTrue(over((odd, 2), (odd, 2)) == (1, 1))
         self.assertTrue(over((odd, 2), (-odd, 2)) == (-1, 1))
         self.assertTrue(amid((odd, 2), (odd, 2)) == (odd, 2))
+
+    def test_large_bottoms_that_share_much(self):
+        shared = figures(1500, 5)
+        for first, second in ((6, 10), (7, 7), (figures(1400, 3), 2 * figures(1400, 7)), (1, shared), (shared, shared)):
+            for top in (1, -1, figures(3000, 11), -figures(3000, 13)):
+                one = as_ratio(Fraction(top, shared * first))
+                other = as_ratio(Fraction(figures(2000, 17), shared * second))
+                self.check_all(one, other)
+                self.check_all(other, one)
+
+    def test_many_large_ratios_added_up(self):
+        seeds = range(3, 64)
+        told = [as_ratio(Fraction(figures(3000, seed) * (-1) ** seed, figures(3000, seed + 1))) for seed in seeds]
+        summed = (0, 1)
+        for one in told:
+            summed = plus(summed, one)
+        self.check(summed, sum(map(fraction, told), Fraction(0)))
+        for one in told:
+            summed = minus(summed, one)
+        self.assertTrue(summed == (0, 1), "not back at nought")
 
     def test_over_nought_is_refused(self):
         for one in ((0, 1), (1, 1), (-1, 1), (-7, 3), (10 ** 2999, 7), (1, 10 ** 2999)):
