@@ -100,6 +100,13 @@ class Drop(unittest.TestCase):
                         with self.assertRaises(NoMeasure):
                             drop(question, group, measure)
 
+    def test_measure_is_refused_ahead_of_all_else(self):
+        # There is no column 9: without the refusal both would fail in another way.
+        with self.assertRaises(NoMeasure):
+            drop(("most", 9, 0), turns(["a", "b"]), "gini")
+        with self.assertRaises(NoMeasure):
+            best(COLUMNS, turns(["a", "b"]), "gini")
+
     def test_what_is_handed_in_stays(self):
         group = turns(["a", "b", "a"])
         drop(("most", 0, 1), group, "shares")

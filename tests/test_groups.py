@@ -168,6 +168,11 @@ class Mess(unittest.TestCase):
                     with self.assertRaises(NoMeasure):
                         mess(counted, measure)
 
+    def test_measure_is_refused_ahead_of_all_else(self):
+        # These are no counts: without the refusal they would fail in another way.
+        with self.assertRaises(NoMeasure):
+            mess(None, "gini")
+
 
 class CountsHandedIn(unittest.TestCase):
     def test_they_stay(self):
