@@ -3,6 +3,7 @@
 from prunepath.errors import NoPlace
 from prunepath.groups import mess
 from prunepath.nodes import Fork
+from prunepath.ratios import greatest_divisor
 
 
 def costed(node, measure):
@@ -43,3 +44,24 @@ def cost_at(tree, place):
     if place not in found:
         raise NoPlace(place)
     return found[place][1]
+
+
+def common_bottom(tree):
+    shared = 1
+    for part in trees_by_place(tree).values():
+        bottom = part[1][1]
+        shared = shared * (bottom // greatest_divisor(shared, bottom))
+    return shared
+
+
+def lifted(tree, bottom):
+    lift = bottom // tree[1][1]
+    if tree[0] == "fork":
+        return ("fork", tree[1][0] * lift, lifted(tree[2], bottom), lifted(tree[3], bottom))
+    return ("end", tree[1][0] * lift)
+
+
+def in_whole_costs(tree):
+    # Over one bottom for all, costs are added up and held against one another as whole numbers;
+    # with ratios of very many figures that takes far too long.
+    return lifted(tree, common_bottom(tree))

@@ -2,7 +2,7 @@
 
 from prunepath.costs import ends, trees_by_place
 from prunepath.errors import NoPrice, NoPruning
-from prunepath.ratios import plus, times, under
+from prunepath.ratios import minus, plus, times, under
 
 
 def beginnings(place, places):
@@ -27,14 +27,24 @@ def check_price(price):
         raise NoPrice(price)
 
 
-def cost(tree, places):
+def check_pruning(tree, places):
     if not is_pruning(tree, places):
         raise NoPruning("these places are no pruning of the tree")
-    known = trees_by_place(tree)
-    told = (0, 1)
-    for place in places:
-        told = plus(told, known[place][1])
-    return told
+
+
+def cost_by_change(known, own, before, places):
+    # From one pruning to another one often few leaves change; to add up all costs anew takes long where they
+    # have many figures.
+    for place in sorted(set(before) - set(places)):
+        own = minus(own, known[place][1])
+    for place in sorted(set(places) - set(before)):
+        own = plus(own, known[place][1])
+    return own
+
+
+def cost(tree, places):
+    check_pruning(tree, places)
+    return cost_by_change(trees_by_place(tree), (0, 1), [], places)
 
 
 def total(tree, places, price):
@@ -43,25 +53,27 @@ def total(tree, places, price):
 
 
 def unreduced_sum(one, other):
-    # These totals are only held against one another; to bring large ones to lowest terms takes long.
+    # These sums are only held against others; to bring large ones to lowest terms takes long.
     return (one[0] * other[1] + other[0] * one[1], one[1] * other[1])
 
 
-def cheapest_with_total(tree, price):
-    own = unreduced_sum(tree[1], price)
+def cheapest_with_cost(tree, price):
     if tree[0] == "end":
-        return ([""], own)
-    yes = cheapest_with_total(tree[2], price)
-    no = cheapest_with_total(tree[3], price)
+        return ([""], tree[1])
+    yes = cheapest_with_cost(tree[2], price)
+    no = cheapest_with_cost(tree[3], price)
+    places = ["n" + place for place in no[0]] + ["y" + place for place in yes[0]]
     both = unreduced_sum(yes[1], no[1])
-    if under(both, own):
-        return (["n" + place for place in no[0]] + ["y" + place for place in yes[0]], both)
-    return ([""], own)
+    # One price falls to either side: what is held against the fork's cost has a price for each leaf but one.
+    spared = (price[0] * (len(places) - 1), price[1])
+    if under(unreduced_sum(both, spared), tree[1]):
+        return (places, both)
+    return ([""], tree[1])
 
 
 def cheapest(tree, price):
     check_price(price)
-    return cheapest_with_total(tree, price)[0]
+    return cheapest_with_cost(tree, price)[0]
 
 
 def how_many(tree):

@@ -1,7 +1,6 @@
 """Prunings: points [2], [16], [17], [18] and the interface, prunepath/prunings.py."""
 
 import itertools
-import random
 import unittest
 from fractions import Fraction
 
@@ -10,68 +9,10 @@ from prunepath.errors import NoPrice, NoPruning
 from prunepath.grow import grow
 from prunepath.prunings import cheapest, cost, how_many, is_pruning, lies_in, total
 from samples import (
-    COLUMNS, MEASURES, all_prunings, as_ratio, costs_in_turn, deep_tree, end, even_tree, figures, fork, fraction,
-    shapes, some_group, trees_and_places, with_costs,
+    BELOW, COLUMNS, MEASURES, NO_PRUNINGS, PRICES, SMALL, SMALL_PRUNINGS, all_prunings, as_ratio, counted_up,
+    deep_tree, end, even_tree, figures, fork, fraction, large_trees, least_by_hand, shapes, small_trees, some_group,
+    total_by_hand, with_costs,
 )
-
-SMALL = fork(9, end(1), fork(5, fork(3, end(-2), end(0)), end(4)))
-SMALL_PRUNINGS = ([""], ["n", "y"], ["nn", "ny", "y"], ["nn", "nyn", "nyy", "y"])
-NO_PRUNINGS = (
-    [], ["", ""], ["n"], ["y"], ["y", "n"], ["n", "n", "y"], ["n", "y", "y"], ["n", "y", "yy"], ["", "n", "y"],
-    ["", "y"], ["n", "nn", "ny", "y"], ["nn", "y"], ["nn", "nyn", "y"], ["nn", "nyy", "y"], ["ny", "y"], ["nn", "ny"],
-    ["ny", "nn", "y"], ["nn", "nyy", "nyn", "y"], ["nn", "ny", "nyn", "y"], ["x"], ["", "x"], ["N", "Y"], [" "],
-    ["n", "y", "z"], ["no", "yes"], ["n", "y "], ["n", "yn", "yy"], ["y" * 40], ["nn", "nyn", "nyy", "y", "y" * 40],
-    ["n n", "n", "y"], ["nnn", "nny", "ny", "y"],
-)
-PRICES = [(0, 1), (1, 3), (1, 2), (1, 1), (3, 2), (2, 1), (5, 2), (7, 1), (10 ** 30, 1)]
-BELOW = [(-1, 1), (-1, 2), (-7, 3), (-1, 10 ** 2999), (-(10 ** 3000 - 1), 7)]
-
-
-def counted_up():
-    return costs_in_turn([as_ratio(Fraction(number * 7 % 31 - 9, 1 + number % 3)) for number in range(31)])
-
-
-def with_gains(tree, gains):
-    # Each fork costs more than both its trees, by one gain behind the other: prunings of many sizes are cheapest.
-    if tree[0] == "end":
-        return tree
-    yes = with_gains(tree[2], gains)
-    no = with_gains(tree[3], gains)
-    return ("fork", as_ratio(fraction(yes[1]) + fraction(no[1]) + next(gains)), yes, no)
-
-
-def large_trees():
-    told = [even_tree(60, counted_up()), deep_tree(counted_up()), deep_tree(counted_up(), "n")]
-    gains = itertools.cycle([Fraction(number * 11 % 37, 4) for number in range(37)])
-    return told + [with_gains(tree, gains) for tree in told]
-
-
-def small_trees():
-    # Every shape of up to five forks, with costs of either sign, few unlike ones, so that ties come up often.
-    chance = random.Random(7)
-    told = []
-    for many in range(6):
-        for shape in shapes(many):
-            for unlike in (2, 4, 9):
-                costs = [as_ratio(Fraction(chance.randrange(-unlike, 2 * unlike), chance.choice((1, 1, 2, 3))))
-                         for place in range(11)]
-                told.append(with_costs(shape, iter(costs)))
-    return told
-
-
-def total_by_hand(tree, places, price):
-    found = dict(trees_and_places(tree))
-    return sum([fraction(found[place][1]) + fraction(price) for place in places], Fraction(0))
-
-
-def least_by_hand(tree, price, place=""):
-    # The least total, and of those that have it the pruning with the fewest places.
-    own = (fraction(tree[1]) + fraction(price), 1, [place])
-    if tree[0] == "end":
-        return own
-    yes = least_by_hand(tree[2], price, place + "y")
-    no = least_by_hand(tree[3], price, place + "n")
-    return min(own, (yes[0] + no[0], yes[1] + no[1], sorted(yes[2] + no[2])))
 
 
 def begins_with_one_of(place, places):
@@ -299,7 +240,7 @@ class Cheapest(unittest.TestCase):
     def test_large_trees(self):
         sizes = {}
         for tree in large_trees():
-            for price in PRICES + [(number, 4) for number in range(100)]:
+            for price in PRICES + [as_ratio(Fraction(number, 4)) for number in range(100)]:
                 found = cheapest(tree, price)
                 self.assertEqual(found, least_by_hand(tree, price)[2])
                 self.assertTrue(is_pruning(tree, found))
