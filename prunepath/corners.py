@@ -9,14 +9,14 @@ def even_price(fewer, more):
 
 
 def best_nowhere(last, price):
-    # Below the price another point is better, and from its own end on the point beneath it is.
+    # Below the price the new point is better than the last one, and from the last one's end on the one ahead of it is.
     end = last[1]
     return end is not None and not under(price, end)
 
 
 def best_points(points):
-    # Tuples (point, end): from the point ahead's end, or from 0, up to but without its own end each is the best.
-    # The one with the fewest leaves stands first and has no end.
+    # Tuples (point, end), the leaves rising: each is the best from the end of the one behind it on (the last one from
+    # 0 on), up to but without its own end; the first one has no end.
     kept = []
     for point in points:
         end = None

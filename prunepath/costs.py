@@ -62,6 +62,6 @@ def lifted(tree, bottom):
 
 
 def in_whole_costs(tree):
-    # Over one bottom for all, costs are added up and held against one another as whole numbers;
-    # with ratios of very many figures that takes far too long.
+    # Over one bottom for all, costs can be added up and held against one another as whole numbers; as ratios of
+    # very many figures that would take far too long.
     return lifted(tree, common_bottom(tree))
